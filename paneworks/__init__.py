@@ -1,0 +1,1 @@
+"""Paneworks: many spaces of pages over few frames."""
