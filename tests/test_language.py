@@ -1,4 +1,4 @@
-"""The package keeps to its small part of Python, as far as reading the code can show."""
+"""A good part of the language rules, checked on the package; L13, L19, L22 to L24 and L28 little or not at all."""
 
 import ast
 import builtins
