@@ -12,6 +12,9 @@ class Store:
         self.dial = Dial(many)
         self.shelf = Shelf(places)
         self.files = Files()
+        # Only sheets that have a holder are kept here.
+        self.holders = {}
+        self.sheets_made = 0
 
 
 def is_sheet(thing):
