@@ -9,6 +9,11 @@ RIGHTS = 3
 NAME = 4
 START = 5
 
+STATE_KIND = 0
+STATE_RIGHTS = 1
+STATE_NAME = 2
+STATE_FILE_PAGE = 3
+
 
 def end_of(stretch):
     return stretch[FIRST] + stretch[MANY]

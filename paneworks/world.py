@@ -38,9 +38,19 @@ def hand_of(world, hand):
     return number(hand, 0, len(world.books) - 1)
 
 
+def strike_page_ways(world, space, page):
+    for book in world.books:
+        book.strike_page(space, page)
+
+
 def strike_space_ways(world, space):
     for book in world.books:
         book.strike_space(space)
+
+
+def strike_frame_ways(world, frame):
+    for book in world.books:
+        book.strike_frame(frame)
 
 
 def told_spaces(world):

@@ -1,4 +1,5 @@
-"""A good part of the language rules, checked on the package; L13, L19, L22 to L24 and L28 little or not at all."""
+"""The language rules, checked on the package as far as a reading of its code alone goes; where that is easier, a
+check is narrower than the rule."""
 
 import ast
 import builtins
@@ -31,6 +32,13 @@ WORDS = re.compile(r"\b(type|typing|typing_extensions|enum|Enum|IntEnum|StrEnum|
                    r"|ABCMeta|namedtuple|NamedTuple|TypedDict|TYPE_CHECKING|abstractmethod)\b"
                    r"|dataclass|overload|contextmanager")
 WALKED = {"zip", "enumerate", "reversed", "range"}
+WALKED_METHODS = {"items", "keys", "values"}
+WALKERS = {"list", "tuple", "dict", "sorted", "sum", "any", "all", "enumerate", "zip", "min", "max"}
+CHANGES = {"append", "clear", "extend", "insert", "pop", "remove", "reverse", "setdefault", "update"}
+KINDS = {"int", "str", "bool", "list", "tuple", "dict"}
+KEYS = {"len", "int", "str", "abs", "sum", "min", "max", "tuple"}
+KEYWORDS = {"sorted": {"key", "reverse"}, "min": {"key", "default"}, "max": {"key", "default"}, "sum": {"start"},
+            "enumerate": {"start"}, "zip": {"strict"}}
 
 
 def sources():
@@ -159,14 +167,123 @@ def node_faults(node):
     if isinstance(node, ast.BinOp) and isinstance(node.op, ast.Pow):
         if not isinstance(node.right, ast.Constant) or node.right.value not in range(65):
             yield "L27 an exponent"
-    if isinstance(node, (ast.Assign, ast.Return)) and isinstance(node.value, ast.Call):
-        if isinstance(node.value.func, ast.Name) and node.value.func.id in WALKED:
-            yield "L23 kept, not walked"
+
+
+def called(node):
+    """The name by which a plain name is called, or None."""
+    return node.func.id if isinstance(node, ast.Call) and isinstance(node.func, ast.Name) else None
+
+
+def is_walk(node):
+    if called(node) in WALKED:
+        return True
+    return isinstance(node, ast.Call) and isinstance(node.func, ast.Attribute) and node.func.attr in WALKED_METHODS
+
+
+def is_walked_at_once(node, above):
+    if isinstance(above, (ast.For, ast.comprehension)):
+        return above.iter is node
+    if called(above) in ("min", "max"):
+        return above.args == [node]
+    if called(above) in WALKERS:
+        return above.args[0] is node
+    return (isinstance(above, ast.Call) and isinstance(above.func, ast.Attribute) and above.func.attr == "join"
+            and isinstance(above.func.value, ast.Constant))
+
+
+def is_set_on_the_spot(node, parents):
+    above = parents[node]
+    while isinstance(above, ast.BinOp):
+        node = above
+        above = parents[node]
+    if called(above) in ("sorted", "len"):
+        return above.args == [node] and not above.keywords
+    return isinstance(above, ast.Compare) and isinstance(above.ops[0], (ast.In, ast.NotIn, ast.Eq, ast.NotEq))
+
+
+def walk_faults(node, parents):
+    """L23, L24 and of L13 what has to do with sets."""
+    if is_walk(node) and not is_walked_at_once(node, parents[node]):
+        yield "L23 kept, not walked"
+    if isinstance(node, ast.Set):
+        yield "L13 L24 a set written out"
+    if called(node) in ("set", "frozenset") and not is_set_on_the_spot(node, parents):
+        yield "L24 a set kept or walked"
+    if isinstance(node, ast.For):
+        walked = node.iter
+        while is_walk(walked):
+            walked = walked.args[0] if walked.args else walked.func.value if called(walked) is None else None
+        if isinstance(walked, (ast.Name, ast.Attribute, ast.Subscript)):
+            for one in ast.walk(node):
+                if changes(one, ast.unparse(walked)):
+                    yield "L23 changed while it is walked"
+
+
+def changes(node, text):
+    if isinstance(node, ast.Call) and isinstance(node.func, ast.Attribute) and node.func.attr in CHANGES:
+        return ast.unparse(node.func.value) == text
+    return (isinstance(node, ast.Subscript) and isinstance(node.ctx, ast.Store)
+            and ast.unparse(node.value) == text)
+
+
+def own_name_faults(node, parents, classes):
+    """L22: how Python's own names are called; L18: where a class stands."""
+    above = parents.get(node)
+    if isinstance(node, ast.Name) and isinstance(node.ctx, ast.Load) and node.id in BUILTINS | classes:
+        stands = isinstance(above, ast.Call) and above.func is node
+        is_error = node.id in ERRORS or node.id in classes
+        stands = stands or is_error and isinstance(above, (ast.ExceptHandler, ast.ClassDef, ast.Raise))
+        stands = stands or isinstance(above, ast.keyword) and above.arg == "key" and node.id in KEYS
+        around = parents.get(above) if isinstance(above, ast.Tuple) else above
+        stands = stands or called(around) == "isinstance" and (node.id in KINDS or node.id in classes)
+        if not stands:
+            yield "L18 L22 kept as a value"
+    if isinstance(node, ast.Call) and (called(node) in BUILTINS or isinstance(node.func, ast.Attribute)):
+        if {one.arg for one in node.keywords} - KEYWORDS.get(called(node), set()):
+            yield "L22 a keyword"
+    if isinstance(node, ast.Attribute) and node.attr in METHODS - FIELD_NAMES:
+        if not (isinstance(above, ast.Call) and above.func is node or isinstance(above, ast.keyword)):
+            yield "L25 a method handed on"
+
+
+def error_faults(node):
+    """L19, narrower: no error of Python's own is taken but the free ones; each is made where it is raised."""
+    if isinstance(node, ast.Raise) and not isinstance(node.exc, ast.Call):
+        yield "L19 not made on the spot"
+    if isinstance(node, ast.ExceptHandler) and node.type is not None:
+        taken = {one.id for one in ast.walk(node.type) if isinstance(one, ast.Name)}
+        if taken & ERRORS - {"KeyError", "ZeroDivisionError", "StopIteration"}:
+            yield "L19 an error of Python's own"
+
+
+def dunder_faults(node):
+    """L28, narrower: of the methods with two underscores only the first is written at all."""
+    if isinstance(node, ast.FunctionDef) and node.name.startswith("__"):
+        if node.name != "__init__" or any(isinstance(one, ast.Return) and one.value for one in ast.walk(node)):
+            yield "L28 a method with two underscores"
+
+
+def lambda_faults(tree):
+    lines = [node.lineno for node in ast.walk(tree) if isinstance(node, ast.Lambda)]
+    if len(set(lines)) != len(lines):
+        yield "L13 two lambdas on one line"
+
+
+def form_faults(tree):
+    parents = {one: node for node in ast.walk(tree) for one in ast.iter_child_nodes(node)}
+    classes = {node.name for node in tree.body if isinstance(node, ast.ClassDef)}
+    yield from lambda_faults(tree)
+    for node in ast.walk(tree):
+        yield from walk_faults(node, parents)
+        yield from own_name_faults(node, parents, classes)
+        yield from error_faults(node)
+        yield from dunder_faults(node)
 
 
 def faults_of(name, text):
     tree = ast.parse(text)
     faults = list(text_faults(name, text)) + list(top_faults(tree)) + list(bound_faults(tree))
+    faults.extend(form_faults(tree))
     for node in ast.walk(tree):
         faults.extend(node_faults(node))
         if isinstance(node, ast.FunctionDef):
@@ -258,6 +375,24 @@ class RulesTest(unittest.TestCase):
             "def f(a):\n    return (b for b in a)\n": "L6 L7 GeneratorExp",
             "def f(a):\n    x = range(a)\n    return x\n": "L23",
             "def f(a):\n    try:\n        return a\n    except Exception:\n        return 1\n": "L19",
+            "def f(a):\n    try:\n        return g(a)\n    except ValueError:\n        return 1\n": "L19",
+            "def f(a):\n    raise a\n": "L19",
+            "def f(d):\n    return d.items()\n": "L23",
+            "def f(a):\n    return len(range(a))\n": "L23",
+            "def f(a, b):\n    return list(zip(a, range(b)))\n": "L23",
+            "def f(d):\n    for k in d:\n        d.pop(k)\n": "L23",
+            "def f(d):\n    for k, v in d.items():\n        d[k] = 1\n": "L23",
+            "def f(xs):\n    for k, x in enumerate(xs):\n        xs[k] = 1\n": "L23",
+            "def f(a):\n    x = set(a)\n    return x\n": "L24",
+            "def f(a):\n    return [x for x in set(a)]\n": "L24",
+            "def f(a):\n    return a in {1, 2, 3}\n": "L13",
+            "def f(a):\n    return sorted(a, key=lambda x: x, reverse=True), min(a, key=lambda x: x)\n": "L13",
+            "def f(a):\n    return g(len, a)\n": "L18 L22",
+            "class C:\n    pass\n\n\ndef f():\n    return [C]\n": "L18 L22",
+            "def f(a):\n    return int(a, base=2)\n": "L22",
+            "def f(a):\n    x = a.append\n    return x\n": "L25",
+            "class C:\n    def __len__(self):\n        return 1\n": "L28",
+            "class C:\n    def __init__(self):\n        return None\n": "L28",
             "class C:\n    x = 1\n": "L5",
             "# the type of it\n": "L17",
             "def _f():\n    return 1\n": "L12",
@@ -272,6 +407,28 @@ class RulesTest(unittest.TestCase):
 
     def test_plain_code_is_not(self):
         text = '"""Words."""\n\nMANY = -4\n\n\ndef f(x):\n    return [one + 10 ** 60 for one in x if one is not None]\n'
+        self.assertEqual(faults_of("plain.py", text), [])
+        text = """
+from paneworks.errors import NoRow
+
+
+class C(NoRow):
+    def __init__(self, xs):
+        self.xs = list(xs)
+
+
+def f(xs, d):
+    for x in list(d):
+        d.pop(x)
+    for k, x in enumerate(reversed(xs)):
+        d[k] = x
+    if not isinstance(xs, (list, C)) or 3 in set(xs) - set(d):
+        raise C(sorted(xs, key=len, reverse=True))
+    try:
+        return min(d.values(), default=0) + sum([x for x in range(3)])
+    except KeyError:
+        return len(set(xs) | set(d))
+"""
         self.assertEqual(faults_of("plain.py", text), [])
 
 

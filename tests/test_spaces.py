@@ -1,64 +1,36 @@
 import inspect
 import unittest
 
+from helper import seen
 from paneworks import spaces as module
 from paneworks.errors import NoSpace
+from paneworks.maps import make_file, map_pages, unmap_pages
 from paneworks.places import is_whole
-from paneworks.sheets import new_sheet
 from paneworks.spaces import end_space, fork_space, make_space
-from paneworks.store import bring, row_now
-from paneworks.stretches import laid
+from paneworks.touches import read_cells, write_cells
 from paneworks.world import (
-    World, told_book, told_copies, told_frames, told_holders, told_marks, told_plan, told_pointer, told_room,
-    told_shelf, told_spaces, told_walks, told_ways)
+    World, told_book, told_copies, told_frames, told_holders, told_plan, told_room, told_shelf, told_spaces, told_ways)
 
 ARGUMENTS = {"make_space": ["world"], "fork_space": ["world", "space"], "end_space": ["world", "space"]}
 STRETCHES = [(0, 1, "own", 2, None, 0), (7, 9, "shared", 1, "a", 3), (200, 56, "own", 2, "a", 0)]
 
 
-def seen(world):
-    """All that a world tells, with the rows of its frames and of its shelf."""
-    things = told_frames(world)
-    sheets = told_shelf(world)
-    return {
-        "plans": {space: told_plan(world, space) for space in told_spaces(world)},
-        "ways": {space: told_ways(world, space) for space in told_spaces(world)},
-        "frames": things,
-        "rows": {thing: row_now(world.store, thing) for thing in things if thing is not None},
-        "marks": told_marks(world),
-        "pointer": told_pointer(world),
-        "shelf": sheets,
-        "shelved": {sheet: row_now(world.store, ("own", sheet)) for sheet in sheets if sheet is not None},
-        "holders": [told_holders(world, sheet) for sheet in range(20)],
-        "books": [told_book(world, hand) for hand in range(len(world.books))],
-        "walks": [told_walks(world, hand) for hand in range(len(world.books))],
-        "copies": told_copies(world),
-        "room": told_room(world),
-    }
-
-
-def give_sheet(world, space, page):
-    sheet = new_sheet(world.store, [page, space, 0, 1])[0]
-    world.spaces[space].table.lay(page, sheet)
-    return sheet
-
-
 def world_with_ways():
     """Spaces 1 and 2 with a plan, with sheets 1 to 3 and 4 to 5, and ways of both in the books of three hands."""
-    world = World(3, 4, 3, 4)
-    world.store.files.make("a", [[1, 2, 3, 4]] * 64)
-    for space, pages in [(1, (0, 200, 255)), (2, (0, 210))]:
+    world = World(4, 3, 3, 4)
+    make_file(world, "a", [[1, 2, 3, 4]] * 64)
+    for space in (1, 2):
         make_space(world)
         for stretch in STRETCHES:
-            world.spaces[space].plan = laid(world.spaces[space].plan, stretch)
-        for page in pages:
-            give_sheet(world, space, page)
-    bring(world.store, ("own", 1))
-    bring(world.store, ("file", "a", 3))
-    world.store.dial.touch(1)
-    for hand, ways in enumerate([[(1, 0, 0, 2), (2, 7, 1, 1), (1, 7, 1, 1)], [(2, 0, 2, 2)], [(1, 200, 2, 1)]]):
-        for way in ways:
-            world.books[hand].note(way[0], way[1], way[2], way[3])
+            map_pages(world, space, *stretch)
+    for hand, space, page in [(0, 1, 0), (0, 1, 200), (0, 1, 255), (1, 2, 0), (1, 2, 210)]:
+        write_cells(world, hand, space, 4 * page, [page, space])
+    # Behind these sheets 3, 4 and 5 are in frames, 1 and 2 on the shelf, and each hand has ways of both spaces.
+    for hand in range(3):
+        for space in (1, 2):
+            read_cells(world, hand, space, 28, 1)
+    for hand, space, page in [(0, 1, 255), (1, 2, 0), (2, 2, 0), (2, 1, 255)]:
+        read_cells(world, hand, space, 4 * page, 1)
     return world
 
 
@@ -82,11 +54,9 @@ class SpacesCase(unittest.TestCase):
 
     def assert_counted(self, world):
         """The holders are those of walking all tables."""
-        counted = [0] * 20
-        for space in told_spaces(world):
-            for page, sheet in told_ways(world, space):
-                counted[sheet] += 1
-        self.assertEqual(seen(world)["holders"], counted)
+        sheets = [sheet for space in told_spaces(world) for page, sheet in told_ways(world, space)]
+        self.assertEqual([told_holders(world, sheet) for sheet in range(20)],
+                         [sheets.count(sheet) for sheet in range(20)])
 
 
 class InterfaceTest(unittest.TestCase):
@@ -136,7 +106,8 @@ class NumberTest(SpacesCase):
         world = world_with_ways()
         before = seen(world)
         self.assert_whole(make_space(world), 3)
-        self.assert_changed(world, before, plans={**before["plans"], 3: []}, ways={**before["ways"], 3: []})
+        self.assert_changed(world, before, spaces=[1, 2, 3], plans={**before["plans"], 3: []},
+                            ways={**before["ways"], 3: []})
 
 
 class NoSpaceTest(SpacesCase):
@@ -151,117 +122,122 @@ class NoSpaceTest(SpacesCase):
 
 
 class ForkTest(SpacesCase):
+    def assert_forked(self, world, old, new):
+        before = seen(world)
+        self.assert_whole(fork_space(world, old), new)
+        held = [sheet for page, sheet in before["ways"][old]]
+        self.assert_changed(
+            world, before, spaces=before["spaces"] + [new], plans={**before["plans"], new: before["plans"][old]},
+            ways={**before["ways"], new: before["ways"][old]},
+            holders={sheet: count + (sheet in held) for sheet, count in before["holders"].items()},
+            books=[[way for way in ways if way[0] != old] for ways in before["books"]])
+        self.assert_counted(world)
+
     def test_the_same_plan_and_ways_and_nothing_else(self):
         for old in (1, 2):
             world = world_with_ways()
-            before = seen(world)
-            self.assertEqual(before["plans"][old], STRETCHES)
-            self.assert_whole(fork_space(world, old), 3)
-            held = [sheet for page, sheet in before["ways"][old]]
-            self.assert_changed(
-                world, before, plans={**before["plans"], 3: STRETCHES},
-                ways={**before["ways"], 3: before["ways"][old]},
-                holders=[count + (sheet in held) for sheet, count in enumerate(before["holders"])],
-                books=[[way for way in ways if way[0] != old] for ways in before["books"]])
-            self.assert_counted(world)
+            for book in seen(world)["books"]:
+                self.assertEqual({way[0] for way in book}, {1, 2})
+            self.assert_forked(world, old, 3)
+            self.assertEqual(told_plan(world, 3), STRETCHES)
 
     def test_of_a_fork_and_again(self):
         world = world_with_ways()
-        fork_space(world, 1)
-        fork_space(world, 3)
-        fork_space(world, 1)
+        self.assert_forked(world, 1, 3)
+        self.assert_forked(world, 3, 4)
+        self.assert_forked(world, 1, 5)
         self.assertEqual([told_holders(world, sheet) for sheet in range(7)], [0, 4, 4, 4, 1, 1, 0])
         for space in (3, 4, 5):
             self.assertEqual(told_plan(world, space), STRETCHES)
             self.assertEqual(told_ways(world, space), [(0, 1), (200, 2), (255, 3)])
-        self.assert_counted(world)
 
     def test_of_a_space_without_pages(self):
         world = world_with_ways()
         make_space(world)
-        before = seen(world)
-        self.assert_whole(fork_space(world, 3), 4)
-        self.assert_changed(world, before, plans={**before["plans"], 4: []}, ways={**before["ways"], 4: []})
+        self.assert_forked(world, 3, 4)
 
     def test_with_no_room(self):
         world = world_with_ways()
-        make_space(world)
-        give_sheet(world, 3, 1)
+        write_cells(world, 0, 1, 804, [1])
         self.assertEqual(told_room(world), 0)
-        before = seen(world)
-        fork_space(world, 1)
-        self.assertEqual((told_room(world), told_frames(world), told_shelf(world), told_copies(world)),
-                         (0, before["frames"], before["shelf"], 0))
+        self.assert_forked(world, 1, 3)
 
     def test_the_two_are_apart_then(self):
         world = world_with_ways()
         fork_space(world, 1)
-        before = seen(world)
-        world.spaces[1].table.strike(200)
-        world.spaces[1].plan = []
-        self.assertEqual(told_ways(world, 3), before["ways"][3])
+        unmap_pages(world, 1, 200, 1)
+        unmap_pages(world, 1, 7, 9)
+        self.assertEqual(told_ways(world, 3), [(0, 1), (200, 2), (255, 3)])
         self.assertEqual(told_plan(world, 3), STRETCHES)
-        world.spaces[3].table.lay(9, 3)
+        map_pages(world, 3, 1, 1, "own", 2)
+        write_cells(world, 0, 3, 4, [1])
         self.assertEqual(told_ways(world, 1), [(0, 1), (255, 3)])
+        self.assertEqual(told_plan(world, 1), [STRETCHES[0], (201, 55, "own", 2, "a", 1)])
+
+    def test_what_is_written_then(self):
+        world = world_with_ways()
+        fork_space(world, 1)
+        # A way found to write ahead of the fork must not be used behind it.
+        write_cells(world, 0, 1, 1020, [77])
+        self.assertEqual(read_cells(world, 1, 3, 1020, 4), [255, 1, 3, 4])
+        self.assertEqual(read_cells(world, 1, 1, 1020, 4), [77, 1, 3, 4])
+        self.assertEqual(told_copies(world), 4)
 
 
 class EndTest(SpacesCase):
+    def assert_ended(self, world, old):
+        before = seen(world)
+        end_space(world, old)
+        less = [sheet for page, sheet in before["ways"][old]]
+        holders = {sheet: count - (sheet in less) for sheet, count in before["holders"].items()}
+        gone = [("own", sheet) for sheet in less if holders[sheet] == 0]
+        kept = [thing not in gone for thing in before["frames"]]
+        self.assertEqual([told_holders(world, sheet) for sheet in holders], list(holders.values()))
+        self.assert_changed(
+            world, before, spaces=[space for space in before["spaces"] if space != old],
+            plans={space: plan for space, plan in before["plans"].items() if space != old},
+            ways={space: ways for space, ways in before["ways"].items() if space != old},
+            holders=seen(world)["holders"],
+            frames=[thing if kept[frame] else None for frame, thing in enumerate(before["frames"])],
+            marks=[mark and kept[frame] for frame, mark in enumerate(before["marks"])],
+            soiled=[soiled and kept[frame] for frame, soiled in enumerate(before["soiled"])],
+            rows={thing: row for thing, row in before["rows"].items() if thing not in gone},
+            shelf=[None if ("own", sheet) in gone else sheet for sheet in before["shelf"]],
+            books=[[way for way in ways if way[0] != old] for ways in before["books"]],
+            room=before["room"] + len(gone))
+        self.assert_counted(world)
+        return len(gone)
+
     def test_its_sheets_and_ways_go(self):
-        for old in (1, 2):
-            world = world_with_ways()
-            before = seen(world)
-            end_space(world, old)
-            gone = [sheet for page, sheet in before["ways"][old]]
-            left = [None if thing in [("own", sheet) for sheet in gone] else thing for thing in before["frames"]]
-            self.assertNotEqual(left, before["frames"])
-            self.assert_changed(
-                world, before, plans={3 - old: STRETCHES}, ways={3 - old: before["ways"][3 - old]}, frames=left,
-                rows={thing: row for thing, row in before["rows"].items() if thing in left},
-                marks=[mark and thing is not None for mark, thing in zip(before["marks"], left)],
-                shelf=[None if sheet in gone else sheet for sheet in before["shelf"]],
-                shelved={sheet: row for sheet, row in before["shelved"].items() if sheet not in gone},
-                holders=[count - (sheet in gone) for sheet, count in enumerate(before["holders"])],
-                books=[[way for way in ways if way[0] != old] for ways in before["books"]],
-                room=before["room"] + len(gone))
-            self.assert_counted(world)
+        for old, gone in [(1, 3), (2, 2)]:
+            self.assertEqual(self.assert_ended(world_with_ways(), old), gone)
 
     def test_sheets_with_other_holders_stay(self):
         for old in (1, 3):
             world = world_with_ways()
             fork_space(world, 1)
-            world.books[2].note(1, 0, 0, 1)
-            world.books[2].note(3, 0, 0, 1)
-            before = seen(world)
-            end_space(world, old)
-            other = 4 - old
-            self.assert_changed(
-                world, before, plans={other: STRETCHES, 2: STRETCHES},
-                ways={other: before["ways"][other], 2: before["ways"][2]},
-                holders=[0] + [1] * 5 + [0] * 14,
-                books=[[way for way in ways if way[0] != old] for ways in before["books"]])
-            self.assert_counted(world)
-            end_space(world, other)
-            self.assertEqual([told_holders(world, sheet) for sheet in range(7)], [0, 0, 0, 0, 1, 1, 0])
+            for hand in range(3):
+                read_cells(world, hand, 1, 28, 1)
+                read_cells(world, hand, 3, 28, 1)
+            self.assertEqual(self.assert_ended(world, old), 0)
+            self.assertEqual(self.assert_ended(world, 4 - old), 3)
 
     def test_of_all_spaces(self):
         world = world_with_ways()
         fork_space(world, 2)
         fork_space(world, 1)
         for space in (2, 1, 4, 3):
-            end_space(world, space)
-            self.assert_counted(world)
+            self.assert_ended(world, space)
         self.assertEqual(told_spaces(world), [])
-        self.assertEqual(told_frames(world), [("file", "a", 3), None, None])
-        self.assertEqual(told_shelf(world), [None] * 4)
+        self.assertEqual(told_frames(world), [None, ("file", "a", 3), None, None])
+        self.assertEqual(told_shelf(world), [None] * 3)
         self.assertEqual(told_room(world), 6)
         self.assertEqual([told_book(world, hand) for hand in range(3)], [[], [], []])
 
     def test_of_a_space_without_pages(self):
         world = world_with_ways()
-        before = seen(world)
         make_space(world)
-        end_space(world, 3)
-        self.assert_changed(world, before)
+        self.assertEqual(self.assert_ended(world, 3), 0)
 
 
 class ApartTest(SpacesCase):
@@ -270,6 +246,7 @@ class ApartTest(SpacesCase):
         other = world_with_ways()
         before = seen(other)
         fork_space(one, 1)
+        write_cells(one, 0, 1, 0, [9])
         end_space(one, 1)
         end_space(one, 2)
         make_space(one)
