@@ -1,4 +1,7 @@
-"""Stretches of pages, tuples (first, many, kind, rights, name, start), and plans, lists of them."""
+"""Stretches of pages, tuples (first, many, kind, rights, name, start), and plans, lists of them.
+
+A page's state is a tuple (kind, rights, name, file page).
+"""
 
 from paneworks.errors import NoPage, Taken
 
